@@ -1,0 +1,1 @@
+"""Symmetric sums with two letters, one for each shape."""

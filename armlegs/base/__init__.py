@@ -1,0 +1,1 @@
+"""Polynomials in q and t, shapes, traces and tableaux."""

@@ -1,0 +1,104 @@
+"""Shapes and compositions as bare tuples of any size, () included, for callers that have checked them."""
+
+
+def partitions_of(size):
+    """The list of the shapes of a size, descending as tuples."""
+    return partitions_within(size, size)
+
+
+def partitions_within(size, longest):
+    """The list of the shapes of a size whose rows are at most so long, descending as tuples."""
+    if size == 0:
+        return [()]
+    found = []
+    for first in range(min(size, longest), 0, -1):
+        for others in partitions_within(size - first, first):
+            found.append((first,) + others)
+    return found
+
+
+def all_compositions(size):
+    """The list of the compositions of a size, descending as tuples."""
+    if size == 0:
+        return [()]
+    found = []
+    for first in range(size, 0, -1):
+        for others in all_compositions(size - first):
+            found.append((first,) + others)
+    return found
+
+
+def turned_parts(shape):
+    """The shape whose rows are the columns of the shape."""
+    longest = shape[0] if shape else 0
+    return tuple([len([part for part in shape if part > column]) for column in range(longest)])
+
+
+def z_number(cycles):
+    """By what n! is divided to count the renamings with these cycles."""
+    made = 1
+    for k, part in enumerate(cycles):
+        made = made * part * cycles[:k + 1].count(part)
+    return made
+
+
+def without_zeros(parts):
+    """The parts above 0."""
+    return tuple([part for part in parts if part > 0])
+
+
+def with_row_strips(shape, many):
+    """The list of the shapes with `many` more squares, no two of the new ones in one column."""
+    begun = [((), many)]
+    for row in range(len(shape) + 1):
+        length = shape[row] if row < len(shape) else 0
+        room = shape[row - 1] - length if row > 0 else many
+        begun = [
+            (parts + (length + more,), left - more)
+            for parts, left in begun
+            for more in range(min(room, left) + 1)
+        ]
+    return [without_zeros(parts) for parts, left in begun if left == 0]
+
+
+def with_rim_strips(shape, many):
+    """The list of the pairs (larger shape, sign) for all strips of `many` squares that can be added.
+
+    Each row has a mark, its length and the number of rows above it. A strip raises one mark by
+    `many`, and it has one row more than there are marks that this one passes.
+    """
+    count = len(shape) + many
+    parts = shape + (0,) * many
+    marks = [parts[row] + count - 1 - row for row in range(count)]
+    found = []
+    for mark in marks:
+        if mark + many not in marks:
+            passed = [other for other in marks if mark < other < mark + many]
+            moved = sorted([other for other in marks if other != mark] + [mark + many], reverse=True)
+            larger = without_zeros([moved[row] - count + 1 + row for row in range(count)])
+            found.append((larger, -1 if len(passed) % 2 == 1 else 1))
+    return found
+
+
+def times_rows(table, parts):
+    """A dict from shapes to integers, led on by adding row strips of the told sizes one after another."""
+    made = table
+    for many in parts:
+        grown = {}
+        for shape, weight in made.items():
+            for larger in with_row_strips(shape, many):
+                grown[larger] = grown.get(larger, 0) + weight
+        made = grown
+    return made
+
+
+def trace_table(cycles):
+    """A dict from the shapes of the size of the cycles to their traces; shapes with the trace 0 can lack."""
+    made = {(): 1}
+    for many in cycles:
+        grown = {}
+        for shape, weight in made.items():
+            for larger, sign in with_rim_strips(shape, many):
+                grown[larger] = grown.get(larger, 0) + sign * weight
+        made = grown
+    return made

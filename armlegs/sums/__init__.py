@@ -1,0 +1,1 @@
+"""Symmetric sums, and letters put into them."""

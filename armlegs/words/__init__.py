@@ -1,0 +1,1 @@
+"""Words, their compositions, and the sums that they make."""
