@@ -5,6 +5,12 @@ import unittest
 from armlegs.base.polys import Poly
 from armlegs.base.shapes import arm, compositions_of, hook, leg, rise, shapes_of, squares_of, turned_shape
 from armlegs.base.traces import standard_count, trace, traces, z_of
+from armlegs.deeds.nabla import elementary_image, nabla
+from armlegs.fill.charges import charge, charge_rounds, cocharge, row_word
+from armlegs.fill.fillings import counts_of, filling_sum, reading, shape_sum
+from armlegs.fill.triangles import corner_number, triangle
+from armlegs.paths.paths import area_rows, is_area_row, is_labelled, labelled_paths
+from armlegs.paths.touching import lead_sum, touching
 from armlegs.sums.letters import put_letters, times_letters
 from armlegs.sums.sums import Sum
 from armlegs.words.words import composition_of, inverse_descents, is_finer, word_of_composition
@@ -47,6 +53,47 @@ class TestExamples(unittest.TestCase):
              word_of_composition((2, 1)), word_of_composition((1, 2, 1)), is_finer((1, 1, 2), (2, 2)),
              is_finer((1, 2, 1), (2, 2))],
             [(1,), (1, 2), (2, 1), (3, 1, 2), (4, 2, 3, 1), True, False])
+
+    def test_fillings(self):
+        self.assertEqual(
+            [reading((2, 1)), counts_of((2, 1), (3, 1, 2)), counts_of((2, 1), (1, 3, 2)),
+             counts_of((2, 2), (2, 1, 1, 1)), filling_sum((2, 1), (2, 1)) == ONE + Q + T,
+             filling_sum((2, 1), (1, 2)) == ONE + Q + T],
+            [((1, 0), (0, 0), (0, 1)), (0, 1), (1, 0), (0, 1), True, True])
+        self.assertEqual(shape_sum((2, 1)), HOOK)
+
+    def test_triangles(self):
+        two = shape_sum((2,))
+        self.assertEqual(
+            [triangle(two, "q").numbers("s") == (((2,), Poly(((0, 0, 1), (1, 0, -1), (2, 0, -1), (3, 0, 1)))),),
+             corner_number((2,), "q") == Poly(((0, 0, 1), (1, 0, -1), (2, 0, -1), (3, 0, 1))),
+             corner_number((1,), "t") == Poly(((0, 0, 1), (0, 1, -1)))],
+            [True, True, True])
+
+    def test_charges(self):
+        self.assertEqual(
+            [charge((2, 1, 1)), charge((1, 1, 2)), charge((1, 2, 3)), charge((2, 1, 3)), cocharge((3, 2, 1)),
+             charge_rounds((1, 1, 2)), row_word((2, 1), (2, 1), ((1, 1), (2,)))],
+            [0, 1, 3, 1, 3, ((1, 2), (0,)), (2, 1, 1)])
+
+    def test_nabla(self):
+        self.assertEqual(
+            [nabla(Sum.of_kind("s", (2,))).pairs == (((1, 1), -Q * T),),
+             elementary_image(2).pairs == (((2,), ONE), ((1, 1), Q + T)), nabla(HOOK) == HOOK.times(Q * T),
+             nabla(nabla(HOOK), many=-1) == HOOK],
+            [True, True, True, True])
+
+    def test_paths(self):
+        self.assertEqual(
+            [area_rows(3), is_area_row((0, 2)), is_labelled((0, 1, 0), (2, 1, 3)), list(labelled_paths((0, 1, 0)))],
+            [((0, 0, 0), (0, 0, 1), (0, 1, 0), (0, 1, 1), (0, 1, 2)), False, False,
+             [(1, 2, 3), (1, 3, 2), (2, 3, 1)]])
+
+    def test_touching(self):
+        self.assertEqual(
+            [[touching(row) for row in ((0, 0, 1), (0, 1, 0), (0, 1, 2))], lead_sum((1, 1)).number_at("s", (2,)).rows,
+             lead_sum((1, 1)).number_at("s", (1, 1)).rows, lead_sum((3,)).number_at("s", (3,)).rows],
+            [[(1, 2), (2, 1), (3,)], ((-1, 0, 1),), ((0, 0, 1),), ((-2, 0, 1),)])
 
 
 if __name__ == "__main__":

@@ -34,6 +34,24 @@ def turned_parts(shape):
     return tuple([len([part for part in shape if part > column]) for column in range(longest)])
 
 
+def parts_rise(shape):
+    """The sum of the row numbers of all squares."""
+    return sum([row * shape[row] for row in range(len(shape))])
+
+
+def arrangements(content):
+    """The list of all tuples that have 1, 2, and so on as often as the content tells, ascending."""
+    begun = [((), content)]
+    for _ in range(sum(content)):
+        begun = [
+            (told + (k + 1,), left[:k] + (left[k] - 1,) + left[k + 1:])
+            for told, left in begun
+            for k in range(len(left))
+            if left[k] > 0
+        ]
+    return [told for told, _ in begun]
+
+
 def z_number(cycles):
     """By what n! is divided to count the renamings with these cycles."""
     made = 1

@@ -1,7 +1,7 @@
 """Shapes, their squares, and the polynomials that belong to them."""
 
 from armlegs.base.checks import is_composition_within, is_integer, is_integer_from, is_shape_within
-from armlegs.base.parts import all_compositions, partitions_of, turned_parts
+from armlegs.base.parts import all_compositions, parts_rise, partitions_of, turned_parts
 from armlegs.base.polys import Poly
 from armlegs.errors import InvalidNumber, InvalidOperation, InvalidShape, TooMany
 
@@ -86,7 +86,7 @@ def hook(shape, square):
 def rise(shape):
     """The sum of the row numbers of all squares."""
     check_shape(shape)
-    return sum([row * shape[row] for row in range(len(shape))])
+    return parts_rise(shape)
 
 
 def lift(shape):
@@ -106,13 +106,21 @@ def value_of(shape):
     return one - (one - Poly.letter(1, 0)) * (one - Poly.letter(0, 1)) * place_sum(shape)
 
 
+def row_factor(shape, square):
+    """t ** leg - q ** (arm + 1)."""
+    return Poly.letter(0, leg(shape, square)) - Poly.letter(arm(shape, square) + 1, 0)
+
+
+def column_factor(shape, square):
+    """q ** arm - t ** (leg + 1)."""
+    return Poly.letter(arm(shape, square), 0) - Poly.letter(0, leg(shape, square) + 1)
+
+
 def norm(shape):
-    """The product of (q ** a - t ** (l + 1)) (t ** l - q ** (a + 1)) over the arms a and legs l of all squares."""
+    """The product of both factors over all squares."""
     made = Poly.number(1)
     for square in squares_of(shape):
-        a = arm(shape, square)
-        b = leg(shape, square)
-        made = made * (Poly.letter(a, 0) - Poly.letter(0, b + 1)) * (Poly.letter(0, b) - Poly.letter(a + 1, 0))
+        made = made * row_factor(shape, square) * column_factor(shape, square)
     return made
 
 

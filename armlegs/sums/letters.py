@@ -69,6 +69,12 @@ def added_letters(some, poly):
     return tuple(made + [shared_number(numbers, (), products, some.size)])
 
 
+def all_parts(some, poly):
+    """As of `added_letters`, but a list with a sum of the size 0 in the place of the polynomial."""
+    made = added_letters(some, poly)
+    return list(made[:-1]) + [sum_of(0, [((), made[-1])])]
+
+
 def without_letters(some, poly):
     """The sum whose letters times the polynomial make `some`.
 

@@ -1,0 +1,1 @@
+"""Operators on symmetric sums that go along with the sums of shapes."""

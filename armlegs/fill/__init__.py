@@ -1,0 +1,1 @@
+"""Fillings of shapes, the two triangles, and sums with one letter alone."""

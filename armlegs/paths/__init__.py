@@ -1,0 +1,1 @@
+"""Labelled paths, and where they touch the slope."""
