@@ -130,6 +130,8 @@ class TestCharges(unittest.TestCase):
         refuse(self, InvalidFilling, None, row_word, (1, 1), (2,), ((1,), (1,)))
         refuse(self, InvalidFilling, None, row_word, (2, 2), (2, 2), ((1, 2), (2, 1)))
         refuse(self, InvalidFilling, None, row_word, (3,), (2, 1), ((1, 2, 1),))
+        refuse(self, InvalidFilling, None, row_word, (3,), (2, 1), ((2, 1, 1),))
+        refuse(self, InvalidFilling, None, row_word, (2, 1), (1, 1, 1), ((2, 1), (3,)))
         refuse(self, InvalidFilling, None, row_word, (2, 2), (1, 1, 1, 1), ((1, 4), (2, 3)))
         for content in ((1,), (2,), (1, 1, 1, 1), (3, 1)):
             refuse(self, InvalidFilling, None, row_word, (2, 1), content, good)

@@ -118,6 +118,7 @@ class TestImages(unittest.TestCase):
             for some in made:
                 for _, number in some.pairs:
                     self.assertTrue(number.is_positive() or (-number).is_positive())
+                    self.assertTrue(all(0 <= i <= 10 and 0 <= j <= 10 for i, j, _ in number.rows))
         self.assertEqual(nabla_table(1), (FIRST,))
 
     def test_errors(self):

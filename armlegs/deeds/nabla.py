@@ -36,7 +36,8 @@ def nabla_images(size):
     """A dict from the shapes of a size to nabla of their tableau sums.
 
     With s the tableau sum and H the sum of a shape, nabla of s is the sum of star(s, H) / norm times the lift
-    times H, over all shapes. All numbers are packed, since the common bottom of these quotients is great.
+    times H, over all shapes. All numbers are packed, since the common bottom of these quotients is great. What
+    they add up to has small coefficients and powers from 0 to 10 in these sizes, so it can be read off its value.
     """
     if size == 0:
         return {(): Sum.of_kind("s", ())}
