@@ -2,6 +2,7 @@
 
 import unittest
 
+from armlegs.arcs.arcs import arcs_of, is_proper, rises_of, spans_of, three_spans, turned_spans
 from armlegs.base.polys import Poly
 from armlegs.base.shapes import arm, compositions_of, hook, leg, rise, shapes_of, squares_of, turned_shape
 from armlegs.base.traces import standard_count, trace, traces, z_of
@@ -10,7 +11,9 @@ from armlegs.fill.charges import charge, charge_rounds, cocharge, row_word
 from armlegs.fill.fillings import counts_of, filling_sum, reading, shape_sum
 from armlegs.fill.triangles import corner_number, triangle
 from armlegs.paths.paths import area_rows, is_area_row, is_labelled, labelled_paths
+from armlegs.paths.tables import entry_counts, hook_tables, is_hook_table
 from armlegs.paths.touching import lead_sum, touching
+from armlegs.rooms.spaces import derived, determinant, space_degrees
 from armlegs.sums.letters import put_letters, times_letters
 from armlegs.sums.sums import Sum
 from armlegs.words.words import composition_of, inverse_descents, is_finer, word_of_composition
@@ -94,6 +97,26 @@ class TestExamples(unittest.TestCase):
             [[touching(row) for row in ((0, 0, 1), (0, 1, 0), (0, 1, 2))], lead_sum((1, 1)).number_at("s", (2,)).rows,
              lead_sum((1, 1)).number_at("s", (1, 1)).rows, lead_sum((3,)).number_at("s", (3,)).rows],
             [[(1, 2), (2, 1), (3,)], ((-1, 0, 1),), ((0, 0, 1),), ((-2, 0, 1),)])
+
+    def test_tables(self):
+        self.assertEqual(
+            [list(hook_tables(2)), is_hook_table(((0, 1), (2,))), is_hook_table(((1, 1), (2,))),
+             [len(list(hook_tables(n))) for n in (1, 2, 3, 4)], entry_counts(3)],
+            [[((0, 1), (2,)), ((1, 0), (1,))], True, False, [1, 2, 7, 40], ((3, 6), (4, 1))])
+
+    def test_spaces(self):
+        self.assertEqual(
+            [determinant(((0, 0), (0, 1))), determinant(((0, 0), (1, 0))),
+             derived(2, determinant(((0, 0), (0, 1))), 1), space_degrees(((0, 0), (0, 2))).rows],
+            [(((0, 1, 0, 0), 1), ((1, 0, 0, 0), -1)), (((0, 0, 0, 1), 1), ((0, 0, 1, 0), -1)),
+             (((0, 0, 0, 0), 1),), ((0, 0, 1), (1, 0, 2), (2, 0, 1))])
+
+    def test_arcs(self):
+        self.assertEqual(
+            [spans_of(2), arcs_of((2, 3, 3)), turned_spans((1, 3, 3)), rises_of((2, 3, 3), (1, 2, 1)),
+             is_proper((2, 3, 3), (1, 2, 1)), is_proper((2, 3, 3), (1, 1, 2)), three_spans((2, 3, 3), 1),
+             three_spans((1, 2), 1)],
+            [((1, 2), (2, 2)), ((1, 2), (2, 3)), (2, 2, 3), 1, True, False, ((1, 3, 3), (3, 3, 3)), None])
 
 
 if __name__ == "__main__":

@@ -20,12 +20,12 @@ EXPRESSIONS = (
     ast.JoinedStr, ast.FormattedValue, ast.Constant, ast.Attribute, ast.Subscript, ast.Name, ast.List, ast.Tuple,
     ast.Slice, ast.Yield,
 )
-OPERATORS = (ast.Add, ast.Sub, ast.Mult, ast.FloorDiv, ast.Mod, ast.Pow)
+OPERATORS = (ast.Add, ast.Sub, ast.Mult, ast.FloorDiv, ast.Mod, ast.Pow, ast.LShift, ast.BitAnd)
 CALLED = {
     "len", "range", "enumerate", "zip", "min", "max", "sum", "abs", "sorted", "int", "bool", "list", "tuple",
     "isinstance", "all", "any", "divmod", "super",
 }
-METHODS = {"append", "extend", "get", "items", "pop", "setdefault", "count", "index"}
+METHODS = {"append", "extend", "get", "items", "values", "pop", "setdefault", "count", "index", "bit_length"}
 DOUBLE = {"__init__", "__eq__", "__str__", "__len__", "__add__", "__sub__", "__mul__", "__neg__", "__bool__"}
 BARRED = {
     "type", "typing", "enum", "register", "mro", "elements", "open", "input", "law", "eval", "exec", "vars", "id",

@@ -1,0 +1,1 @@
+"""Arcs between things, and the sums of their colourings."""
