@@ -7,6 +7,7 @@ from armlegs.base.polys import Poly
 from armlegs.base.shapes import arm, compositions_of, hook, leg, rise, shapes_of, squares_of, turned_shape
 from armlegs.base.traces import standard_count, trace, traces, z_of
 from armlegs.deeds.nabla import elementary_image, nabla
+from armlegs.desk.desk import Desk
 from armlegs.fill.charges import charge, charge_rounds, cocharge, row_word
 from armlegs.fill.fillings import counts_of, filling_sum, reading, shape_sum
 from armlegs.fill.triangles import corner_number, triangle
@@ -16,6 +17,7 @@ from armlegs.paths.touching import lead_sum, touching
 from armlegs.rooms.spaces import derived, determinant, space_degrees
 from armlegs.sums.letters import put_letters, times_letters
 from armlegs.sums.sums import Sum
+from armlegs.text.texts import read_poly, read_shape, write_poly, write_shape, write_sum
 from armlegs.words.words import composition_of, inverse_descents, is_finer, word_of_composition
 
 Q = Poly.letter(1, 0)
@@ -117,6 +119,20 @@ class TestExamples(unittest.TestCase):
              is_proper((2, 3, 3), (1, 2, 1)), is_proper((2, 3, 3), (1, 1, 2)), three_spans((2, 3, 3), 1),
              three_spans((1, 2), 1)],
             [((1, 2), (2, 2)), ((1, 2), (2, 3)), (2, 2, 3), 1, True, False, ((1, 3, 3), (3, 3, 3)), None])
+
+    def test_desk(self):
+        desk = Desk()
+        self.assertEqual(
+            [desk.edit((("shape", "h", (2, 1)), ("put", "s", "s", (2, 1)))), desk.pin(("which", "h")),
+             desk.edit((("trade", "h"),)), desk.edit((("add", "h", "s"),)), desk.standing(1, 2), desk.open_claims,
+             str(desk)],
+            [1, 1, 2, 3, ("stands", (True, ("shape", (2, 1)))), (1,), "desk of 2 things, edition 3, 1 claims"])
+
+    def test_texts(self):
+        self.assertEqual(
+            [write_shape((2, 1)), read_shape("3,1,1"), write_poly(ONE + Q + Q - Q.power(3).shifted(0, -2)),
+             read_poly("-t(-1)+q") == Q - Poly.letter(0, -1), write_poly(Poly(())), write_sum(HOOK)],
+            ["2,1", (3, 1, 1), "1+2q-q3t(-2)", True, "0", "sum 3\n3 1\n2,1 t+q\n1,1,1 qt\n"])
 
 
 if __name__ == "__main__":

@@ -13,7 +13,7 @@ import armlegs
 FOLDER = os.path.dirname(armlegs.__file__)
 STATEMENTS = (
     ast.Import, ast.ImportFrom, ast.FunctionDef, ast.ClassDef, ast.Assign, ast.If, ast.While, ast.For, ast.Return,
-    ast.Raise, ast.Pass, ast.Expr, ast.Break, ast.Continue, ast.Delete,
+    ast.Raise, ast.Pass, ast.Expr, ast.Break, ast.Continue, ast.Delete, ast.Try,
 )
 EXPRESSIONS = (
     ast.BoolOp, ast.BinOp, ast.UnaryOp, ast.IfExp, ast.Dict, ast.ListComp, ast.DictComp, ast.Compare, ast.Call,
@@ -23,10 +23,18 @@ EXPRESSIONS = (
 OPERATORS = (ast.Add, ast.Sub, ast.Mult, ast.FloorDiv, ast.Mod, ast.Pow, ast.LShift, ast.BitAnd)
 CALLED = {
     "len", "range", "enumerate", "zip", "min", "max", "sum", "abs", "sorted", "int", "bool", "list", "tuple",
-    "isinstance", "all", "any", "divmod", "super",
+    "isinstance", "all", "any", "divmod", "super", "str",
 }
-METHODS = {"append", "extend", "get", "items", "values", "pop", "setdefault", "count", "index", "bit_length"}
-DOUBLE = {"__init__", "__eq__", "__str__", "__len__", "__add__", "__sub__", "__mul__", "__neg__", "__bool__"}
+METHODS = {
+    "append", "extend", "get", "items", "values", "pop", "setdefault", "count", "index", "bit_length", "split", "join",
+    "partition", "startswith", "endswith", "zfill",
+}
+CAUGHT = {
+    "ArmError", "InvalidNumber", "InvalidOperation", "NothingToUndo", "Refused", "TooMany", "UnknownName",
+}
+DOUBLE = {
+    "__init__", "__eq__", "__str__", "__len__", "__add__", "__sub__", "__mul__", "__neg__", "__bool__", "__contains__",
+}
 BARRED = {
     "type", "typing", "enum", "register", "mro", "elements", "open", "input", "law", "eval", "exec", "vars", "id",
     "dir", "help", "exit", "map", "next", "iter", "hash", "object",
@@ -153,7 +161,19 @@ class TestLanguage(unittest.TestCase):
                         self.assertIsInstance(node.func, ast.Attribute)
                         self.assertIn(node.func.attr, own | METHODS | {"__init__"})
                     named = {told.arg for told in node.keywords}
-                    self.assertLessEqual(named, {"key", "reverse", "default"})
+                    self.assertLessEqual(named, {"key", "reverse", "default", "calls"})
+
+    def test_handlers(self):
+        # Own errors alone are caught, each name of a caught error once in its function.
+        for path, text, tree in self.each():
+            for node in ast.walk(tree):
+                if isinstance(node, ast.Try):
+                    self.assertEqual(node.finalbody, [])
+                    for handler in node.handlers:
+                        caught = handler.type.elts if isinstance(handler.type, ast.Tuple) else [handler.type]
+                        self.assertLessEqual({one.id for one in caught}, CAUGHT)
+                    names = [handler.name for handler in node.handlers if handler.name]
+                    self.assertEqual(len(names), len(set(names)))
 
     def test_functions(self):
         for path, text, tree in self.each():

@@ -1,0 +1,1 @@
+"""Texts of shapes, polynomials and sums, and a shell that reads lines."""
