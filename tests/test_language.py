@@ -163,6 +163,23 @@ class TestLanguage(unittest.TestCase):
                     named = {told.arg for told in node.keywords}
                     self.assertLessEqual(named, {"key", "reverse", "default", "calls"})
 
+    def test_members(self):
+        # Names of class methods and properties mean nothing else in any class.
+        found = {"classmethod": set(), "property": set(), "plain": set(), "attributes": set()}
+        for path, text, tree in self.each():
+            for node in ast.walk(tree):
+                if isinstance(node, ast.ClassDef):
+                    for method in node.body:
+                        if isinstance(method, ast.FunctionDef):
+                            kinds = [told.id for told in method.decorator_list] or ["plain"]
+                            found[kinds[0]].add(method.name)
+                if isinstance(node, ast.Attribute) and isinstance(node.ctx, ast.Store):
+                    found["attributes"].add(node.attr)
+        for kind, names in found.items():
+            for other, more in found.items():
+                if kind != other and kind in ("classmethod", "property"):
+                    self.assertEqual(names & more, set(), (kind, other))
+
     def test_handlers(self):
         # Own errors alone are caught, each name of a caught error once in its function.
         for path, text, tree in self.each():

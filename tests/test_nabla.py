@@ -1,13 +1,13 @@
 """Nabla: [11.1] to [11.7]."""
 
 import unittest
+from time import process_time
 
 from armlegs.base.polys import Poly
 from armlegs.base.shapes import lift, shapes_of
 from armlegs.deeds import nabla as nablas
 from armlegs.deeds.nabla import elementary_image, grown, nabla, nabla_table
-from armlegs.deeds.packs import packed, unpacked
-from armlegs.deeds.values import moved
+from armlegs.deeds.values import moved, star
 from armlegs.errors import InvalidNumber, InvalidOperation, InvalidPoly, InvalidSum
 from armlegs.fill.fillings import shape_sum
 from armlegs.sums.sums import Sum
@@ -169,15 +169,49 @@ class TestGrown(unittest.TestCase):
             refuse(self, InvalidOperation, None, grown, Sum(3, ()), wrong)
 
 
-class TestPacks(unittest.TestCase):
-    def test_there_and_back(self):
-        for poly in (
-            ZERO, ONE, -ONE, Q, T, Q - T, Poly(((0, 7, -32768), (1, 0, 32767), (1, 1, -1), (31, 2, -5), (31, 9, 1))),
-        ):
-            self.assertEqual(unpacked(packed(poly)), poly)
-            for other in (Q + T, ONE - Q * T):
-                self.assertEqual(packed(poly) * packed(other), packed(poly * other))
-                self.assertEqual(packed(poly) - packed(other), packed(poly - other))
+class TestManyCalls(unittest.TestCase):
+    """Nabla is quick, and it is what the numbers at the sums of shapes ask."""
+
+    def calls(self):
+        polys = (ONE, Q - T, ONE - Q * T + Poly.letter(-1, 2), Poly.number(10 ** 59 + 7) * Q - T - T)
+        shapes = shapes_of(5)
+        return [
+            (unit(shapes[k % 7]).times(polys[k % 4]), k % 5 - 2)
+            for k in range(100)
+        ]
+
+    def test_time(self):
+        calls = self.calls()
+        self.assertEqual({many for _, many in calls}, {-2, -1, 0, 1, 2})
+        self.assertEqual(len({some.pairs[0][0] for some, _ in calls}), 7)
+        start = process_time()
+        for some, many in calls:
+            nabla(some, many=many)
+        self.assertLess(process_time() - start, 2)
+        start = process_time()
+        for _ in range(100):
+            elementary_image(5)
+            nabla_table(5)
+            grown(unit((2, 2, 1)), Q + ONE)
+            nabla(Sum(5, ()))
+        self.assertLess(process_time() - start, 2)
+
+    def test_asked(self):
+        # Sums of shapes are apart from one another, so star pairings with them tell the numbers at them.
+        sums = [(shape_sum(shape), lift(shape)) for shape in shapes_of(5)]
+        for some, many in self.calls()[::3]:
+            made = nabla(some, many=many)
+            for whole, raised in sums:
+                right = star(some, whole)
+                for _ in range(abs(many)):
+                    right = right * (raised if many > 0 else raised.inverted())
+                self.assertEqual(star(made, whole), right)
+
+    def test_all_images(self):
+        for size in SIZES:
+            for shape, made in zip(shapes_of(size), nabla_table(size)):
+                for other in shapes_of(size):
+                    self.assertEqual(star(made, shape_sum(other)), star(unit(shape), shape_sum(other)) * lift(other))
 
 
 if __name__ == "__main__":

@@ -1,10 +1,10 @@
 """Arcs between things that stand in a row, and the sums of their colourings."""
 
-from armlegs.arcs.colourings import counted_colourings
 from armlegs.base.checks import is_integer_from
-from armlegs.base.parts import partitions_of
-from armlegs.base.polys import Poly, quotient_of
-from armlegs.deeds.packs import unpacked
+from armlegs.base.colourings import FIELD_BITS, counted_colourings
+from armlegs.base.packs import unpacked
+from armlegs.base.parts import SHAPES
+from armlegs.base.polys import Poly, poly_of, quotient_of
 from armlegs.errors import InvalidNumber, InvalidPath, InvalidWord, Refused
 from armlegs.sums.letters import times_letters
 from armlegs.sums.sums import Sum, check_sum, sum_of
@@ -89,8 +89,9 @@ def proper_sum(spans):
 def sum_of_colourings(spans, proper):
     """The sum with the told numbers of all colourings, or of the proper ones alone."""
     size = len(spans)
-    counted = counted_colourings(spans, proper)
-    told = [(shape, unpacked(counted.get(shape, 0))) for shape in partitions_of(size)]
+    ends = [(1 << span) - (1 << (k + 1)) for k, span in enumerate(spans)]
+    counted = counted_colourings(ends, [0] * size, proper, FIELD_BITS)
+    told = [(shape, poly_of(unpacked(counted.get(shape, 0), (0, 0), 1, FIELD_BITS))) for shape in SHAPES[size]]
     return Sum.from_numbers("h", size, sum_of(size, told).pairs)
 
 

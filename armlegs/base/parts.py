@@ -1,20 +1,23 @@
-"""Shapes and compositions as bare tuples of any size, () included, for callers that have checked them."""
+"""Shapes and compositions as bare tuples, () included, for callers that have checked them."""
+
+# The shapes of each size, descending as tuples.
+SHAPES = (
+    ((),),
+    ((1,),),
+    ((2,), (1, 1)),
+    ((3,), (2, 1), (1, 1, 1)),
+    ((4,), (3, 1), (2, 2), (2, 1, 1), (1, 1, 1, 1)),
+    ((5,), (4, 1), (3, 2), (3, 1, 1), (2, 2, 1), (2, 1, 1, 1), (1, 1, 1, 1, 1)),
+    (
+        (6,), (5, 1), (4, 2), (4, 1, 1), (3, 3), (3, 2, 1), (3, 1, 1, 1), (2, 2, 2), (2, 2, 1, 1), (2, 1, 1, 1, 1),
+        (1, 1, 1, 1, 1, 1),
+    ),
+)
 
 
 def partitions_of(size):
-    """The list of the shapes of a size, descending as tuples."""
-    return partitions_within(size, size)
-
-
-def partitions_within(size, longest):
-    """The list of the shapes of a size whose rows are at most so long, descending as tuples."""
-    if size == 0:
-        return [()]
-    found = []
-    for first in range(min(size, longest), 0, -1):
-        for others in partitions_within(size - first, first):
-            found.append((first,) + others)
-    return found
+    """The tuple of the shapes of a size from 0 to 6, descending as tuples."""
+    return SHAPES[size]
 
 
 def all_compositions(size):
@@ -32,6 +35,11 @@ def turned_parts(shape):
     """The shape whose rows are the columns of the shape."""
     longest = shape[0] if shape else 0
     return tuple([len([part for part in shape if part > column]) for column in range(longest)])
+
+
+def is_above(one, other):
+    """Whether the one shape is at or above the other one, of the same size."""
+    return all([sum(one[:many]) >= sum(other[:many]) for many in range(1, len(one))])
 
 
 def parts_rise(shape):

@@ -161,11 +161,14 @@ def poly_of(rows):
 
 def weighted_sum(parts):
     """The sum of the products of the pairs (integer, polynomial) of a list."""
+    told = [(weight, poly) for weight, poly in parts if weight != 0 and len(poly) > 0]
+    if len(told) == 1:
+        weight, poly = told[0]
+        return poly if weight == 1 else poly_of(tuple([(i, j, weight * c) for i, j, c in poly.rows]))
     table = {}
-    for weight, poly in parts:
-        if weight != 0:
-            for i, j, c in poly.rows:
-                table[(i, j)] = table.get((i, j), 0) + weight * c
+    for weight, poly in told:
+        for i, j, c in poly.rows:
+            table[(i, j)] = table.get((i, j), 0) + weight * c
     return poly_of(rows_of_table(table))
 
 

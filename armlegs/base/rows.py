@@ -27,7 +27,7 @@ def are_rows(value, most_rows, most_power):
 
 def rows_of_table(table):
     """The rows with the coefficients of a dict from pairs of powers, which can hold zeros."""
-    return tuple([(i, j, table[(i, j)]) for i, j in sorted(table) if table[(i, j)] != 0])
+    return tuple(sorted([(i, j, c) for (i, j), c in table.items() if c != 0]))
 
 
 def least_power(rows, letter):
@@ -47,6 +47,8 @@ def product_rows(one, other):
     """
     if len(one) == 0 or len(other) == 0:
         return ()
+    if len(one) == 1 or len(other) == 1:
+        return tuple([(i + k, j + m, c * d) for i, j, c in one for k, m, d in other])
     low_one = least_power(one, 1)
     low_other = least_power(other, 1)
     width = greatest_power(one, 1) - low_one + greatest_power(other, 1) - low_other + 1

@@ -1,7 +1,7 @@
 """Shapes, their squares, and the polynomials that belong to them."""
 
 from armlegs.base.checks import is_composition_within, is_integer, is_integer_from, is_shape_within
-from armlegs.base.parts import all_compositions, parts_rise, partitions_of, turned_parts
+from armlegs.base.parts import all_compositions, is_above, parts_rise, partitions_of, turned_parts
 from armlegs.base.polys import Poly
 from armlegs.errors import InvalidNumber, InvalidOperation, InvalidShape, TooMany
 
@@ -130,7 +130,7 @@ def is_at_or_above(shape, other):
     check_shape(other)
     if sum(shape) != sum(other):
         raise InvalidOperation("the shapes have unlike sizes")
-    return all([sum(shape[:many]) >= sum(other[:many]) for many in range(1, len(shape) + 1)])
+    return is_above(shape, other)
 
 
 def lower_shapes(shape):

@@ -1,13 +1,12 @@
 """An operator that multiplies each sum of a shape by its value, squares more or less, and the star pairing."""
 
 from armlegs.base.checks import is_integer_from
-from armlegs.base.parts import without_zeros
 from armlegs.base.polys import Poly
 from armlegs.base.shapes import check_shape, column_factor, norm, row_factor, square_between, squares_of
 from armlegs.errors import InvalidNumber, InvalidOperation, TooMany
 from armlegs.fill.fillings import shape_sum
-from armlegs.sums.letters import all_parts, times_letters
-from armlegs.sums.sums import MOST_SIZE, Sum, check_sizes, check_sum, pairing
+from armlegs.sums.letters import joined_parts, lettered_pairing
+from armlegs.sums.sums import MOST_SIZE, check_sizes, check_sum
 
 
 def both_letters():
@@ -26,13 +25,14 @@ def moved(f, step):
         raise InvalidOperation("there is no sum of a size below 0")
     if size > MOST_SIZE:
         raise TooMany(MOST_SIZE)
-    made = Sum(size, ())
-    for j, part in enumerate(all_parts(f, both_letters())):
-        i = j + step
-        if i >= 0:
-            product = Sum.of_kind("e", without_zeros((i,))) * part
-            made = made + product if i % 2 == 0 else made - product
-    return made
+    return joined_parts(f, both_letters(), size, [signed_column(j + step) for j in range(f.size + 1)])
+
+
+def signed_column(many):
+    """The sign, and the shape as a tableau sum, of the sum of the kind "e" for so many letters; 0 and () below 0."""
+    if many < 0:
+        return (0, ())
+    return (1 if many % 2 == 0 else -1, (1,) * many)
 
 
 def lowering(shape, lower):
@@ -66,7 +66,7 @@ def star(one, other):
     check_sum(one)
     check_sum(other)
     check_sizes(one, other)
-    return pairing(one.turned(), times_letters(other, both_letters()))
+    return lettered_pairing(one.turned(), other, both_letters())
 
 
 def shape_number(f, shape):

@@ -3,11 +3,10 @@
 from armlegs.base.checks import is_integer, is_integer_from, is_shape_within
 from armlegs.base.polys import MOST_POWER, MOST_ROWS, Poly
 from armlegs.base.rows import are_rows
-from armlegs.base.shapes import shapes_of
 from armlegs.deeds.values import star
 from armlegs.desk.works import has_few_rows, names_asked, with_thing, without_thing, worked
 from armlegs.errors import InvalidNumber, InvalidOperation, NothingToUndo, Refused, TooMany, UnknownName
-from armlegs.fill.triangles import first_failure, which_shape
+from armlegs.fill.triangles import all_failures, which_shape
 from armlegs.sums.sums import KINDS, Sum
 
 MOST_NAMES = 8
@@ -150,7 +149,7 @@ def decided_which(one):
     shape = which_shape(one)
     if shape is not None:
         return (True, ("shape", shape))
-    return (False, ("none", tuple([first_failure(other, one) for other in shapes_of(one.size)])))
+    return (False, ("none", all_failures(one)))
 
 
 def refusal(things, deed):

@@ -1,13 +1,14 @@
 """Fillings of shapes with integers, their two counts, and the sums of shapes."""
 
 from armlegs.base.checks import is_integer_from
-from armlegs.base.parts import arrangements, partitions_of
+from armlegs.base.parts import arrangements
 from armlegs.base.polys import poly_of
 from armlegs.base.rows import rows_of_table
 from armlegs.base.shapes import arm, check_shape, leg
 from armlegs.base.traces import check_content
 from armlegs.errors import InvalidFilling
-from armlegs.sums.sums import Sum
+from armlegs.fill.known import SHAPE_ROWS
+from armlegs.sums.sums import sum_of
 
 MOST_ENTRY = 60
 
@@ -90,11 +91,9 @@ def filling_sum(shape, content):
 
 
 def shape_sum(shape):
-    """The sum of the shape: its numbers of the kind "h" are the filling sums."""
+    """The sum of the shape: its numbers of the kind "h" are the filling sums, and it is kept with the package."""
     check_shape(shape)
-    size = sum(shape)
-    told = [(content, filling_sum(shape, content)) for content in partitions_of(size)]
-    return Sum.from_numbers("h", size, tuple(told))
+    return sum_of(sum(shape), [(other, poly_of(rows)) for other, rows in SHAPE_ROWS[shape]])
 
 
 def standard_fillings(shape):

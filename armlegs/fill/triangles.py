@@ -1,12 +1,11 @@
 """The two triangular rules that tell the sum of a shape."""
 
+from armlegs.base.parts import SHAPES, is_above, turned_parts
 from armlegs.base.polys import Poly
-from armlegs.base.shapes import (
-    check_shape, column_factor, is_at_or_above, row_factor, shapes_of, squares_of, turned_shape,
-)
+from armlegs.base.shapes import check_shape, column_factor, row_factor, squares_of
 from armlegs.errors import InvalidOperation
 from armlegs.fill.fillings import shape_sum
-from armlegs.sums.letters import times_letters
+from armlegs.sums.letters import lettered_shapes, times_letters
 from armlegs.sums.sums import check_sum
 
 LETTERS = ("q", "t")
@@ -18,25 +17,39 @@ def check_letter(letter):
         raise InvalidOperation("the letter is neither q nor t")
 
 
+def taken_letter(letter):
+    """The polynomial 1 - q, or 1 - t."""
+    return Poly(((0, 0, 1), (1, 0, -1))) if letter == "q" else Poly(((0, 0, 1), (0, 1, -1)))
+
+
 def triangle(f, letter):
     """The sum in letters times 1 - q, or times 1 - t."""
     check_sum(f)
     check_letter(letter)
-    taken = Poly.letter(1, 0) if letter == "q" else Poly.letter(0, 1)
-    return times_letters(f, Poly.number(1) - taken)
+    return times_letters(f, taken_letter(letter))
+
+
+def triangle_shapes(f, letter):
+    """The list of the shapes at which the triangle of the sum has a tableau number other than 0, in sequence."""
+    return lettered_shapes(f, taken_letter(letter))
 
 
 def lowest_shape(shape, letter):
     """The lowest shape at which the triangle of the sum of the shape has a number other than 0."""
-    return shape if letter == "q" else turned_shape(shape)
+    return shape if letter == "q" else turned_parts(shape)
 
 
 def barred_shapes(shape, letter):
     """The tuple of the shapes that are not at or above the shape, for "t" not at or above the turned one."""
     check_shape(shape)
     check_letter(letter)
+    return tuple(barred_among(SHAPES[sum(shape)], shape, letter))
+
+
+def barred_among(shapes, shape, letter):
+    """The list of the shapes among those that are barred."""
     lowest = lowest_shape(shape, letter)
-    return tuple([other for other in shapes_of(sum(shape)) if not is_at_or_above(other, lowest)])
+    return [other for other in shapes if not is_above(other, lowest)]
 
 
 def first_failure(shape, f):
@@ -46,13 +59,22 @@ def first_failure(shape, f):
     if f.size != sum(shape):
         return ("size",)
     for letter in LETTERS:
-        barred = barred_shapes(shape, letter)
-        failed = [other for other, _ in triangle(f, letter).pairs if other in barred]
+        failed = barred_among(triangle_shapes(f, letter), shape, letter)
         if failed:
             return (letter, failed[0])
-    if one_row_number(f) != Poly.number(1):
-        return ("one",)
-    return None
+    return None if one_row_number(f) == Poly.number(1) else ("one",)
+
+
+def all_failures(f):
+    """The tuple of the first failures of the sum for all shapes of its size, which is not 0, in sequence."""
+    found = [(letter, triangle_shapes(f, letter)) for letter in LETTERS]
+    failures = []
+    for shape in SHAPES[f.size]:
+        failed = [(letter, other) for letter, shapes in found for other in barred_among(shapes, shape, letter)]
+        if not failed and one_row_number(f) != Poly.number(1):
+            failed = [("one",)]
+        failures.append(failed[0] if failed else None)
+    return tuple(failures)
 
 
 def one_row_number(f):
@@ -79,16 +101,11 @@ def multiple_of(f):
     check_sum(f)
     if f.size == 0 or len(f.pairs) == 0:
         return None
-    told = [(letter, [other for other, _ in triangle(f, letter).pairs]) for letter in LETTERS]
-    for shape in shapes_of(f.size):
-        if all([is_above_all(others, lowest_shape(shape, letter)) for letter, others in told]):
+    found = [(letter, triangle_shapes(f, letter)) for letter in LETTERS]
+    for shape in SHAPES[f.size]:
+        if not any([barred_among(shapes, shape, letter) for letter, shapes in found]):
             return (shape, one_row_number(f))
     return None
-
-
-def is_above_all(shapes, lowest):
-    """Whether all of the shapes are at or above the lowest one."""
-    return all([is_at_or_above(other, lowest) for other in shapes])
 
 
 def corner_number(shape, letter):

@@ -1,15 +1,20 @@
 """Labelled paths, their area and dinv, and the sums that they make."""
 
 from armlegs.base.checks import is_integer, is_integer_from
-from armlegs.base.polys import Poly, poly_of
+from armlegs.base.colourings import FIELD_BITS, counted_colourings
+from armlegs.base.packs import unpacked
+from armlegs.base.parts import SHAPES
+from armlegs.base.polys import poly_of
 from armlegs.base.rows import rows_of_table
 from armlegs.base.shapes import check_size
 from armlegs.errors import InvalidNumber, InvalidPath
-from armlegs.sums.sums import Sum
-from armlegs.words.words import is_word, pairs_of_words, symmetric_sum
+from armlegs.sums.sums import Sum, sum_of
+from armlegs.words.words import is_word
 
 MOST_ENTRIES = 6
 MOST_SUMMED = 5
+# More than the greatest area of an area row whose labels are summed: packed sums have so many powers of t.
+MANY_AREAS = 11
 
 
 def check_row(row):
@@ -113,14 +118,7 @@ def path_word(row, labels):
 def row_sum(row):
     """The sum of t ** area q ** dinv times the fundamental sum of the word, over all labels of the row."""
     check_summed_row(row)
-    told = [(path_word(row, labels), path_term(row, labels)) for labels in labels_of(row)]
-    return symmetric_sum(len(row), pairs_of_words(len(row), tuple(told)))
-
-
-def path_term(row, labels):
-    """The term t ** area q ** dinv of a labelled path."""
-    area, dinv = path_counts(row, labels)
-    return Poly.letter(dinv, area)
+    return total_of_rows(len(row), [row])
 
 
 def path_sum(size):
@@ -130,12 +128,32 @@ def path_sum(size):
     return total_of_rows(size, area_rows(size))
 
 
+def lot_of(things):
+    """The lot with the things of a list, as the bits of an integer."""
+    return sum([1 << k for k in things])
+
+
+def counted_labels(row):
+    """A dict from the shapes of the size to the packed sums of q ** dinv over all labels with these many equal ones.
+
+    Equal labels that are told apart as their word is read from the left add nothing to dinv, and do not stand where the
+    entry is one more than the one ahead of it. So labels are colours, and dinv counts rises.
+    """
+    places = range(len(row))
+    pairs = level_pairs(row) + [(j, i) for i, j in falling_pairs(row)]
+    ends = [lot_of([j for i, j in pairs if i == k]) for k in places]
+    ahead = [lot_of([k - 1]) if k > 0 and row[k] == row[k - 1] + 1 else 0 for k in places]
+    return counted_colourings(ends, ahead, False, FIELD_BITS * MANY_AREAS)
+
+
 def total_of_rows(size, rows):
     """The sum of the row sums of some area rows of a length."""
-    made = Sum(size, ())
+    found = {}
     for row in rows:
-        made = made + row_sum(row)
-    return made
+        for shape, number in counted_labels(row).items():
+            found[shape] = found.get(shape, 0) + (number << (FIELD_BITS * sum(row)))
+    told = [(shape, poly_of(unpacked(found.get(shape, 0), (0, 0), MANY_AREAS, FIELD_BITS))) for shape in SHAPES[size]]
+    return Sum.from_numbers("h", size, sum_of(size, told).pairs)
 
 
 def row_polynomial(size):

@@ -5,7 +5,7 @@ from armlegs.base.polys import Poly
 from armlegs.base.shapes import check_composition
 from armlegs.errors import InvalidNumber, InvalidShape, TooMany
 from armlegs.paths.paths import MOST_SUMMED, area_rows, check_row, total_of_rows
-from armlegs.sums.letters import all_parts
+from armlegs.sums.letters import joined_parts
 from armlegs.sums.sums import MOST_SIZE, Sum, check_sum
 
 MOST_LED = 6
@@ -35,11 +35,9 @@ def lead(some, a):
     size = some.size + a
     if size > MOST_SIZE:
         raise TooMany(MOST_SIZE)
-    made = Sum(size, ())
-    for k, part in enumerate(all_parts(some, Poly.letter(-1, 0) - Poly.number(1))):
-        made = made + part * Sum.of_kind("h", (a + k,))
     sign = 1 if a % 2 == 1 else -1
-    return made.times(Poly.letter(1 - a, 0) * Poly.number(sign))
+    beside = [(sign, (a + k,)) for k in range(some.size + 1)]
+    return joined_parts(some, Poly(((-1, 0, 1), (0, 0, -1))), size, beside).times(Poly.letter(1 - a, 0))
 
 
 def lead_sum(composition):

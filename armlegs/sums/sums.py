@@ -3,10 +3,11 @@
 from math import factorial
 
 from armlegs.base.checks import is_integer_from, is_shape_within
-from armlegs.base.parts import partitions_of, turned_parts, z_number
+from armlegs.base.parts import SHAPES, turned_parts
 from armlegs.base.polys import Poly, check_poly, divided, weighted_sum
 from armlegs.errors import InvalidNumber, InvalidOperation, InvalidShape, InvalidSum, Refused, TooMany, UnknownName
-from armlegs.sums.kinds import kind_table, kind_tables, opposite_tables, product_table
+from armlegs.sums.kinds import kind_row, kind_rows, opposite_rows, product_pairs
+from armlegs.sums.tables import POWER_ROWS, RENAMINGS
 
 MOST_SIZE = 6
 KINDS = ("m", "e", "h", "p", "s")
@@ -29,17 +30,22 @@ class Sum:
         check_kind(kind)
         if not is_shape_within(shape, 0, MOST_SIZE):
             raise InvalidShape("this is no shape of a size from 0 to 6")
-        return combined(sum(shape), [(kind_table(kind, shape), Poly.number(1))])
+        one = Poly.number(1)
+        if kind == "s":
+            return sum_of(sum(shape), [(shape, one)])
+        return spread(sum(shape), [(kind_row(kind, shape), one)])
 
     @classmethod
     def from_numbers(cls, kind, size, pairs):
         """The only sum whose numbers of the kind are told so, 0 at other shapes."""
         check_kind(kind)
         told = Sum(size, pairs)
+        if kind == "s":
+            return told
         if kind == "p":
             return from_cycles(told)
-        tables = opposite_tables(kind, size)
-        return combined(size, [(tables[shape], number) for shape, number in pairs])
+        rows = opposite_rows(kind, size)
+        return spread(size, [(rows[k], number) for k, number in placed_numbers(told)])
 
     @property
     def size(self):
@@ -56,37 +62,42 @@ class Sum:
         check_kind(kind)
         if not is_shape_within(shape, self._size, self._size):
             raise InvalidShape("this is no shape of the size")
-        return paired(self, kind_table(kind, shape))
+        if kind == "s":
+            return number_among(self._pairs, shape)
+        return paired(kind_row(kind, shape), placed_numbers(self))
 
     def numbers(self, kind):
         """The tuple of the pairs of the shapes and the numbers of a kind other than 0."""
         check_kind(kind)
-        tables = kind_tables(kind, self._size)
-        told = [(shape, paired(self, tables[shape])) for shape in partitions_of(self._size)]
+        if kind == "s":
+            return self._pairs
+        placed = placed_numbers(self)
+        told = [(shape, paired(row, placed)) for shape, row in zip(SHAPES[self._size], kind_rows(kind, self._size))]
         return tuple([(shape, number) for shape, number in told if len(number) > 0])
 
     def __add__(self, other):
         if not isinstance(other, Sum):
             return NotImplemented
         check_sizes(self, other)
-        return combined(self._size, parts_of(self, 1) + parts_of(other, 1))
+        return gathered(self._size, signed_parts(self, 1) + signed_parts(other, 1))
 
     def __sub__(self, other):
         if not isinstance(other, Sum):
             return NotImplemented
         check_sizes(self, other)
-        return combined(self._size, parts_of(self, 1) + parts_of(other, -1))
+        return gathered(self._size, signed_parts(self, 1) + signed_parts(other, -1))
 
     def __neg__(self):
-        return combined(self._size, parts_of(self, -1))
+        return gathered(self._size, signed_parts(self, -1))
 
     def __mul__(self, other):
         if not isinstance(other, Sum):
             return NotImplemented
         if self._size + other.size > MOST_SIZE:
             raise TooMany(MOST_SIZE)
-        parts = [(product_table(one, two), f * g) for one, f in self._pairs for two, g in other.pairs]
-        return combined(self._size + other.size, parts)
+        products = [(product_pairs(one, two), f * g) for one, f in self._pairs for two, g in other.pairs]
+        parts = [(shape, many, number) for shapes, number in products for shape, many in shapes]
+        return gathered(self._size + other.size, parts)
 
     def times(self, poly):
         """The sum with all numbers times a polynomial."""
@@ -95,7 +106,7 @@ class Sum:
 
     def turned(self):
         """The sum with the tableau numbers at turned shapes."""
-        return combined(self._size, [({turned_parts(shape): 1}, number) for shape, number in self._pairs])
+        return gathered(self._size, [(turned_parts(shape), 1, number) for shape, number in self._pairs])
 
     def with_traded(self):
         """The sum with q and t traded in all numbers."""
@@ -155,22 +166,44 @@ def sum_of(size, pairs):
     return made
 
 
-def combined(size, parts):
-    """The sum of the pairs (dict from shapes to integers, polynomial): these sums times these polynomials."""
+def gathered(size, parts):
+    """The sum of the triples (shape, integer, polynomial): these tableau sums times these integers and polynomials."""
+    found = {}
+    for shape, weight, number in parts:
+        found.setdefault(shape, []).append((weight, number))
+    return sum_of(size, [(shape, weighted_sum(found[shape])) for shape in SHAPES[size] if shape in found])
+
+
+def signed_parts(some, sign):
+    """The list of triples, as of `gathered`, of a sum with a sign."""
+    return [(shape, sign, number) for shape, number in some.pairs]
+
+
+def number_among(pairs, shape):
+    """The number at a shape among pairs, 0 if there is none."""
+    for other, number in pairs:
+        if other == shape:
+            return number
+    return Poly(())
+
+
+def placed_numbers(some):
+    """The list of the pairs of the index of a shape, in the sequence of its size, and of its tableau number."""
+    shapes = SHAPES[some.size]
+    return [(shapes.index(shape), number) for shape, number in some.pairs]
+
+
+def paired(row, placed):
+    """The pairing of a sum, told as of `placed_numbers`, with the one that has a row of integers as tableau numbers."""
+    return weighted_sum([(row[k], number) for k, number in placed])
+
+
+def spread(size, parts):
+    """The sum of the pairs (row of integers at all shapes, polynomial): these sums times these polynomials."""
     return sum_of(size, [
-        (shape, weighted_sum([(table.get(shape, 0), number) for table, number in parts]))
-        for shape in partitions_of(size)
+        (shape, weighted_sum([(row[k], number) for row, number in parts]))
+        for k, shape in enumerate(SHAPES[size])
     ])
-
-
-def parts_of(some, sign):
-    """The list of parts, as of `combined`, of a sum with a sign."""
-    return [({shape: sign}, number) for shape, number in some.pairs]
-
-
-def paired(some, table):
-    """The pairing of a sum with the one that has these integers as tableau numbers."""
-    return weighted_sum([(table.get(shape, 0), number) for shape, number in some.pairs])
 
 
 def from_cycles(told):
@@ -187,11 +220,10 @@ def from_cycles(told):
 
 def whole_numbers(told):
     """As of `from_cycles`, but with n! times each number, so that all of them have integers."""
-    whole = factorial(told.size)
-    tables = kind_tables("p", told.size)
-    weights = [(tables[cycles], whole // z_number(cycles), number) for cycles, number in told.pairs]
-    parts = [({shape: table[shape] * weight for shape in table}, number) for table, weight, number in weights]
-    return combined(told.size, parts)
+    rows = POWER_ROWS[told.size]
+    counts = RENAMINGS[told.size]
+    placed = [([counts[c] * trace for trace in rows[c]], number) for c, number in placed_numbers(told)]
+    return spread(told.size, placed)
 
 
 def pairing(one, other):
