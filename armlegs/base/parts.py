@@ -37,6 +37,16 @@ def turned_parts(shape):
     return tuple([len([part for part in shape if part > column]) for column in range(longest)])
 
 
+def arms_and_legs(shape):
+    """The list of the triples (square, arm, leg) for all squares of the shape, ascending."""
+    columns = turned_parts(shape)
+    return [
+        ((row, column), length - column - 1, columns[column] - row - 1)
+        for row, length in enumerate(shape)
+        for column in range(length)
+    ]
+
+
 def is_above(one, other):
     """Whether the one shape is at or above the other one, of the same size."""
     return all([sum(one[:many]) >= sum(other[:many]) for many in range(1, len(one))])

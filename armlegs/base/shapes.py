@@ -1,7 +1,7 @@
 """Shapes, their squares, and the polynomials that belong to them."""
 
 from armlegs.base.checks import is_composition_within, is_integer, is_integer_from, is_shape_within
-from armlegs.base.parts import all_compositions, is_above, parts_rise, partitions_of, turned_parts
+from armlegs.base.parts import all_compositions, arms_and_legs, is_above, parts_rise, partitions_of, turned_parts
 from armlegs.base.polys import Poly
 from armlegs.errors import InvalidNumber, InvalidOperation, InvalidShape, TooMany
 
@@ -106,21 +106,24 @@ def value_of(shape):
     return one - (one - Poly.letter(1, 0)) * (one - Poly.letter(0, 1)) * place_sum(shape)
 
 
-def row_factor(shape, square):
+def row_factor(arms, legs):
     """t ** leg - q ** (arm + 1)."""
-    return Poly.letter(0, leg(shape, square)) - Poly.letter(arm(shape, square) + 1, 0)
+    return Poly(((0, legs, 1), (arms + 1, 0, -1)))
 
 
-def column_factor(shape, square):
+def column_factor(arms, legs):
     """q ** arm - t ** (leg + 1)."""
-    return Poly.letter(arm(shape, square), 0) - Poly.letter(0, leg(shape, square) + 1)
+    if arms == 0:
+        return Poly(((0, 0, 1), (0, legs + 1, -1)))
+    return Poly(((0, legs + 1, -1), (arms, 0, 1)))
 
 
 def norm(shape):
     """The product of both factors over all squares."""
+    check_shape(shape)
     made = Poly.number(1)
-    for square in squares_of(shape):
-        made = made * row_factor(shape, square) * column_factor(shape, square)
+    for _, arms, legs in arms_and_legs(shape):
+        made = made * row_factor(arms, legs) * column_factor(arms, legs)
     return made
 
 

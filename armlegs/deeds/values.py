@@ -1,8 +1,9 @@
 """An operator that multiplies each sum of a shape by its value, squares more or less, and the star pairing."""
 
 from armlegs.base.checks import is_integer_from
+from armlegs.base.parts import arms_and_legs
 from armlegs.base.polys import Poly
-from armlegs.base.shapes import check_shape, column_factor, norm, row_factor, square_between, squares_of
+from armlegs.base.shapes import check_shape, column_factor, norm, row_factor, square_between
 from armlegs.errors import InvalidNumber, InvalidOperation, TooMany
 from armlegs.fill.fillings import shape_sum
 from armlegs.sums.letters import joined_parts, lettered_pairing
@@ -44,11 +45,11 @@ def lowering(shape, lower):
 def cross_product(shape, gone):
     """The product of a factor for each square of the shape in the row, or the column, of the square that goes."""
     made = Poly.number(1)
-    for square in squares_of(shape):
+    for square, arms, legs in arms_and_legs(shape):
         if square[0] == gone[0] and square != gone:
-            made = made * row_factor(shape, square)
+            made = made * row_factor(arms, legs)
         if square[1] == gone[1] and square != gone:
-            made = made * column_factor(shape, square)
+            made = made * column_factor(arms, legs)
     return made
 
 

@@ -1,8 +1,8 @@
 """The two triangular rules that tell the sum of a shape."""
 
-from armlegs.base.parts import SHAPES, is_above, turned_parts
+from armlegs.base.parts import SHAPES, arms_and_legs, is_above, turned_parts
 from armlegs.base.polys import Poly
-from armlegs.base.shapes import check_shape, column_factor, row_factor, squares_of
+from armlegs.base.shapes import check_shape, column_factor, row_factor
 from armlegs.errors import InvalidOperation
 from armlegs.fill.fillings import shape_sum
 from armlegs.sums.letters import lettered_shapes, times_letters
@@ -113,7 +113,6 @@ def corner_number(shape, letter):
     check_shape(shape)
     check_letter(letter)
     made = Poly.number(1)
-    for square in squares_of(shape):
-        factor = row_factor(shape, square) if letter == "q" else column_factor(shape, square)
-        made = made * factor
+    for _, arms, legs in arms_and_legs(shape):
+        made = made * (row_factor(arms, legs) if letter == "q" else column_factor(arms, legs))
     return made

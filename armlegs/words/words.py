@@ -57,18 +57,17 @@ def is_finer(one, other):
     """Whether neighbours of the one composition, put together, make the other."""
     check_composition(one)
     check_composition(other)
-    return has_ends_of(one, other)
-
-
-def has_ends_of(one, other):
-    """Whether the parts of the one composition end wherever those of the other end, and at its end."""
-    ends = ends_of(one)
-    return sum(one) == sum(other) and all([end in ends for end in ends_of(other)])
+    return sum(one) == sum(other) and ends_of(one) & ends_of(other) == ends_of(other)
 
 
 def ends_of(composition):
-    """The sums of the first parts, for each number of parts."""
-    return [sum(composition[:many]) for many in range(1, len(composition) + 1)]
+    """The sums of the first parts, for each number of parts, as the bits of an integer."""
+    made = 0
+    end = 0
+    for part in composition:
+        end = end + part
+        made = made + (1 << end)
+    return made
 
 
 def are_composition_pairs(size, value):
@@ -99,12 +98,18 @@ def content_number(size, pairs, composition):
     check_composition(composition)
     if sum(composition) != size:
         raise InvalidOperation("the composition is not one of the size")
-    return told_number(pairs, composition)
+    return told_number(ended_pairs(pairs), composition)
 
 
-def told_number(pairs, content):
-    """The sum of the numbers of all compositions than which the content is finer."""
-    return weighted_sum([(1, number) for composition, number in pairs if has_ends_of(content, composition)])
+def ended_pairs(pairs):
+    """The list of the pairs of the ends of a composition and of its number."""
+    return [(ends_of(composition), number) for composition, number in pairs]
+
+
+def told_number(ended, content):
+    """The sum of the numbers of all compositions than which the content is finer, told as of `ended_pairs`."""
+    within = ends_of(content)
+    return weighted_sum([(1, number) for ends, number in ended if ends & within == ends])
 
 
 def straightened(composition):
@@ -136,17 +141,14 @@ def shape_of_content(content):
 def fundamental_paper(size, pairs):
     """A paper that tells whether the fundamental sum is symmetric: the sum, or two contents that tell it is not."""
     check_fundamental(size, pairs)
+    ended = ended_pairs(pairs)
+    numbers = {shape: told_number(ended, shape) for shape in partitions_of(size)}
     for content in all_compositions(size):
         shape = shape_of_content(content)
-        if told_number(pairs, content) != told_number(pairs, shape):
+        if content != shape and told_number(ended, content) != numbers[shape]:
             return ("two", shape, content)
-    return ("symmetric", symmetric_sum(size, pairs))
-
-
-def symmetric_sum(size, pairs):
-    """The symmetric sum with the numbers of the contents that are shapes."""
-    told = [(shape, told_number(pairs, shape)) for shape in partitions_of(size)]
-    return Sum.from_numbers("h", size, sum_of(size, told).pairs)
+    told = [(shape, numbers[shape]) for shape in partitions_of(size)]
+    return ("symmetric", Sum.from_numbers("h", size, sum_of(size, told).pairs))
 
 
 def is_fundamental_paper(size, pairs, value):
@@ -166,7 +168,8 @@ def are_unlike_contents(size, pairs, one, other):
         return False
     if shape_of_content(one) != shape_of_content(other):
         return False
-    return told_number(pairs, one) != told_number(pairs, other)
+    ended = ended_pairs(pairs)
+    return told_number(ended, one) != told_number(ended, other)
 
 
 def is_word_pair(size, value):
