@@ -6,6 +6,7 @@ from random import Random
 from armlegs.base import packs
 from armlegs.base.packs import Dense, Sparse, packed, unpacked, way_to_work
 from armlegs.base.polys import Poly
+from armlegs.deeds.nabla import nabla
 from armlegs.deeds.values import moved, star
 from armlegs.fill.fillings import shape_sum
 from armlegs.fill.triangles import multiple_of, triangle
@@ -14,6 +15,7 @@ from armlegs.sums.letters import added_letters, put_letters, times_letters
 from armlegs.sums.sums import Sum
 from tests.helpers import ONE, Q, T, ZERO, all_shapes, sample_sums
 
+BELOW = Poly.letter(-1, 0)
 POLYS = (ONE, -ONE, ONE - Q, Q + T, (ONE - Q) * (ONE - T), Poly.letter(-1, 0) - ONE, Poly.letter(-1, 2) - Q - T - T,
          Poly.number(7) - Poly.letter(0, -2), Poly(((-1, -1, 3), (0, 0, -2), (1, 1, 1))))
 
@@ -58,18 +60,18 @@ class TestWays(unittest.TestCase):
     def test_choice(self):
         rows = list((Q + T).rows)
         one = [(0, 0, 1)]
-        self.assertIsInstance(way_to_work(rows, one, ONE - Q, 4), Dense)
+        self.assertIsInstance(way_to_work(rows, one, ONE - Q, 4, 24), Dense)
         for told in (([], one, Q), (rows, [], Q), (rows, one, ZERO)):
-            self.assertIsInstance(way_to_work(*told, 4), Sparse)
+            self.assertIsInstance(way_to_work(*told, 4, 24), Sparse)
         wide = list((Q + Poly.letter(200, 200)).rows)
-        self.assertIsInstance(way_to_work(wide, one, ONE, 4), Sparse)
-        self.assertIsInstance(way_to_work(rows, wide, ONE, 4), Sparse)
-        self.assertIsInstance(way_to_work(rows, one, ONE + Poly.letter(100, 100), 4), Sparse)
+        self.assertIsInstance(way_to_work(wide, one, ONE, 4, 24), Sparse)
+        self.assertIsInstance(way_to_work(rows, wide, ONE, 4, 24), Sparse)
+        self.assertIsInstance(way_to_work(rows, one, ONE + Poly.letter(100, 100), 4, 24), Sparse)
         long = list((Q * Poly.number(10 ** 59) + Poly.letter(0, 20)).rows)
-        self.assertIsInstance(way_to_work(long, long, Poly.number(10 ** 59) - Q, 6), Sparse)
+        self.assertIsInstance(way_to_work(long, long, Poly.number(10 ** 59) - Q, 6, 24), Sparse)
 
     def test_methods(self):
-        for way in (Sparse(), way_to_work([(-2, 3, 1), (4, -1, 1)], [(-1, -1, 5), (2, 2, 1)], Q - Poly.letter(-1, 0), 3)):
+        for way in (Sparse(), way_to_work([(-2, 3, 1), (4, -1, 1)], [(-1, -1, 5), (2, 2, 1)], Q - BELOW, 3, 24)):
             one, other = Poly.letter(-2, 3) - Poly.letter(4, -1), Poly.letter(-1, -1) + Poly.letter(2, 2)
             unit = way.raised(way.one(), 0)
             self.assertEqual(way.poly(way.pack(one) * unit), one)
@@ -101,6 +103,9 @@ class TestWays(unittest.TestCase):
                 self.check(triangle, some, "t")
                 self.check(multiple_of, some)
                 self.check(star, some, some)
+                if size < 6:
+                    self.check(nabla, some)
+                    self.check(nabla, nabla(some))
 
     def test_long_integers(self):
         random = Random(11)
@@ -112,6 +117,7 @@ class TestWays(unittest.TestCase):
             for call in (times_letters, put_letters, added_letters):
                 self.check(call, some, poly)
             self.check(star, some, other)
+            self.check(nabla, some)
             self.check(moved, some, 0)
             self.check(lead, some, 1)
 

@@ -11,7 +11,7 @@ from armlegs.base.polys import Poly, divided, int_power, poly_of, weighted_sum
 
 MOST_FIELDS = 600
 MOST_BITS = 40000
-# With so many binary digits more than the bound asks for, the sums of this package do not outgrow their fields.
+# With so many binary digits more than the bound asks for, sums with letters put in do not outgrow their fields.
 SPARE_BITS = 24
 
 
@@ -163,10 +163,11 @@ def whole_weight(rows):
     return sum([abs(row[2]) for row in rows])
 
 
-def way_to_work(rows, beside, poly, size):
+def way_to_work(rows, beside, poly, size, spare):
     """The way for a sum of a size, and another one beside it, with letters put in.
 
-    `rows` and `beside` are lists of the rows of the numbers of both sums.
+    `rows` and `beside` are lists of the rows of the numbers of both sums. The product of all their coefficients, of
+    those of the letters and of `size` factorial is the bound of what is made; `spare` binary digits are added.
     """
     if len(rows) == 0 or len(beside) == 0 or len(poly) == 0:
         return Sparse()
@@ -179,7 +180,7 @@ def way_to_work(rows, beside, poly, size):
         for k in (0, 1)
     ]
     bound = whole_weight(rows) * whole_weight(beside) * int_power(whole_weight(poly.rows), size) * factorial(size)
-    bits = (bound.bit_length() + SPARE_BITS + 3) // 4 * 4
+    bits = (bound.bit_length() + spare + 3) // 4 * 4
     fields = spans[0] * spans[1]
     if fields > MOST_FIELDS or fields * bits > MOST_BITS:
         return Sparse()

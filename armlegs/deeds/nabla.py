@@ -1,14 +1,19 @@
 """Nabla: the operator that multiplies each sum of a shape by the lift of the shape."""
 
 from armlegs.base.checks import is_integer_from
+from armlegs.base.packs import Sparse, way_to_work
 from armlegs.base.parts import SHAPES
-from armlegs.base.polys import check_poly, poly_of
+from armlegs.base.polys import Poly, check_poly, poly_of
 from armlegs.deeds.images import IMAGE_ROWS
 from armlegs.errors import InvalidNumber, InvalidOperation, InvalidSum
-from armlegs.sums.sums import Sum, gathered
+from armlegs.sums.letters import rows_of_sum
+from armlegs.sums.sums import Sum, gathered, sum_of
 
 MOST_NABLA = 5
 MOST_TIMES = 2
+FEW_ROWS = 6
+# Nabla makes nothing that is greater than the bound; one binary digit is left for signs, and one more.
+SIGN_BITS = 2
 
 
 def check_led(some):
@@ -29,13 +34,26 @@ def image_parts(shape):
     return [(other, sign, poly_of(rows)) for other, rows in pairs]
 
 
+def way_to_lead(some, images):
+    """The way to work on the numbers of a sum and the images of its tableau sums; to pack few rows takes too long."""
+    rows = rows_of_sum(some)
+    if len(rows) <= FEW_ROWS:
+        return Sparse()
+    beside = [row for parts in images for _, _, image in parts for row in image.rows]
+    return way_to_work(rows, beside, Poly.number(1), 0, SIGN_BITS)
+
+
 def led_on(some):
     """Nabla of the sum: that of its tableau sums, times its numbers."""
-    return gathered(some.size, [
-        (other, sign, number * image)
-        for shape, number in some.pairs
-        for other, sign, image in image_parts(shape)
-    ])
+    images = [image_parts(shape) for shape, _ in some.pairs]
+    way = way_to_lead(some, images)
+    found = {}
+    for (_, number), parts in zip(some.pairs, images):
+        value = way.pack(number)
+        for other, sign, image in parts:
+            found.setdefault(other, []).append((sign, value * way.pack_beside(image)))
+    size = some.size
+    return sum_of(size, [(shape, way.poly_beside(way.total(found[shape]))) for shape in SHAPES[size] if shape in found])
 
 
 def led_back(some):

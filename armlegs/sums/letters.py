@@ -2,7 +2,7 @@
 
 from math import factorial
 
-from armlegs.base.packs import Sparse, way_to_work
+from armlegs.base.packs import SPARE_BITS, Sparse, way_to_work
 from armlegs.base.parts import SHAPES
 from armlegs.base.polys import Poly, check_poly, quotient_of
 from armlegs.base.shapes import check_shape
@@ -14,7 +14,7 @@ from armlegs.sums.tables import POWER_ROWS, RENAMINGS
 
 def way_for(some, poly):
     """The way to work on the numbers of a sum with letters put in."""
-    return way_to_work(rows_of_sum(some), [(0, 0, 1)], poly, some.size)
+    return way_to_work(rows_of_sum(some), [(0, 0, 1)], poly, some.size, SPARE_BITS)
 
 
 def rows_of_sum(some):
@@ -66,7 +66,7 @@ def lettered_shapes(some, poly):
 
 def lettered_pairing(one, other, poly):
     """The pairing of a sum with another one of its size that is in letters times a polynomial."""
-    way = way_to_work(rows_of_sum(other), rows_of_sum(one), poly, other.size)
+    way = way_to_work(rows_of_sum(other), rows_of_sum(one), poly, other.size, SPARE_BITS)
     numbers = lettered(other, poly, way)
     products = [(1, way.pack_beside(number) * numbers[k]) for k, number in placed_numbers(one)]
     return way.poly_beside(way.total(products))
