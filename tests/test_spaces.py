@@ -157,6 +157,42 @@ def is_brute_harmonic(n, form):
     return True
 
 
+def rank_by_remainders(forms):
+    """How many forms are independent if integers are taken modulo a prime: with great primes as many as without."""
+    prime = 2 ** 31 - 1
+    rows = {}
+    for form in forms:
+        left = {powers: c % prime for powers, c in form.items()}
+        while left:
+            lead = max(left)
+            if lead not in rows:
+                inverse = pow(left[lead], -1, prime)
+                rows[lead] = {powers: c * inverse % prime for powers, c in left.items()}
+                break
+            factor = left[lead]
+            for powers, c in rows[lead].items():
+                left[powers] = (left.get(powers, 0) - factor * c) % prime
+                if not left[powers]:
+                    del left[powers]
+    return len(rows)
+
+
+def ranked_degrees(squares):
+    """The degrees of the space, by the derivatives by all products of letters at once."""
+    n = len(squares)
+    found = {}
+    for powers, c in brute_determinant(squares):
+        for step in product(*[range(power + 1) for power in powers]):
+            left = tuple(power - less for power, less in zip(powers, step))
+            for power, less in zip(powers, step):
+                c = c * factorial(power) // factorial(power - less)
+            made = found.setdefault((sum(left[:n]), sum(left[n:])), {}).setdefault(step, {})
+            made[left] = made.get(left, 0) + c
+            for power, less in zip(powers, step):
+                c = c * factorial(power - less) // factorial(power)
+    return Poly(tuple((a, b, rank_by_remainders(found[a, b].values())) for a, b in sorted(found)))
+
+
 def poly_of_counts(found):
     return Poly(tuple(sorted((a, b, len(rows)) for (a, b), rows in found.items())))
 
@@ -266,6 +302,20 @@ class TestSpaces(unittest.TestCase):
                 self.assertEqual(made.inverted().shifted(*top), made)
                 self.assertEqual(space_degrees(tuple(sorted((b, a) for a, b in squares))), made.traded())
                 self.assertEqual(made.rows[-1], top + (1,))
+
+    def test_ranks(self):
+        for size in (1, 2, 3):
+            for squares in combinations(PLACES, size):
+                made = space_degrees(squares)
+                self.assertEqual(made, ranked_degrees(squares), squares)
+                # One basis of each space, of the degrees in the middle.
+                at = len(made) // 2
+                i, j, many = made.rows[at]
+                basis = space_basis(squares, (i, j))
+                self.assertEqual(len(basis), many)
+                self.assertIs(is_space_basis(squares, (i, j), basis), True)
+                self.assertIs(is_space_basis(squares, (i, j), basis[1:] + basis[:1]), True)
+                self.assertIs(is_space_basis(squares, (i, j), basis[1:]), False)
 
     def test_shapes(self):
         for shape in SMALL:
